@@ -1,0 +1,1 @@
+"""Bunkmates: rooms of two, and whom each one would share one with."""
