@@ -29,19 +29,24 @@ def would_rather(places, other, mate):
     return mate is None or places[other] < places[mate]
 
 
-def spoilers(lists, pairing):
-    """Tell the pairs of two who spoil the pairing, the less one first, rising."""
-    rows = mutual(lists)
-    check_pairing(rows, pairing)
+def spoiling(rows, mates):
+    """Tell the pairs of two who would each rather have the other than the told mate."""
     places = places_in(rows)
     return [
         (one, other)
         for one, row in enumerate(rows)
         for other in sorted(row)
         if one < other
-        and would_rather(places[one], other, pairing[one])
-        and would_rather(places[other], one, pairing[other])
+        and would_rather(places[one], other, mates[one])
+        and would_rather(places[other], one, mates[other])
     ]
+
+
+def spoilers(lists, pairing):
+    """Tell the pairs of two who spoil the pairing, the less one first, rising."""
+    rows = mutual(lists)
+    check_pairing(rows, pairing)
+    return spoiling(rows, pairing)
 
 
 def is_good(lists, pairing):

@@ -6,9 +6,13 @@ import inspect
 import os
 import unittest
 
+from bunkmates.halves import half_pairing, is_steady
 from bunkmates.lists import mutual
 from bunkmates.offers import offered
 from bunkmates.pairings import is_good, spoilers
+from bunkmates.rings import last_rows, rings_out
+from bunkmates.search import all_good
+from bunkmates.told import alone, odd_rings, paired
 
 FOLDER = os.path.join(os.path.dirname(os.path.dirname(os.path.abspath(__file__))), "bunkmates")
 LIBRARY = ("heapq", "math", "itertools", "collections")
@@ -71,6 +75,14 @@ class Interface(unittest.TestCase):
             (spoilers, "bunkmates.pairings", ["lists", "pairing"]),
             (is_good, "bunkmates.pairings", ["lists", "pairing"]),
             (offered, "bunkmates.offers", ["lists"]),
+            (rings_out, "bunkmates.rings", ["lists"]),
+            (last_rows, "bunkmates.rings", ["lists"]),
+            (half_pairing, "bunkmates.halves", ["lists"]),
+            (is_steady, "bunkmates.halves", ["lists", "half"]),
+            (paired, "bunkmates.told", ["lists"]),
+            (odd_rings, "bunkmates.told", ["lists"]),
+            (alone, "bunkmates.told", ["lists"]),
+            (all_good, "bunkmates.search", ["lists"]),
         ):
             self.assertEqual(function.__module__, module)
             self.assertEqual(list(inspect.signature(function).parameters), arguments)

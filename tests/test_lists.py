@@ -1,33 +1,43 @@
 import copy
 import random
 import unittest
+from functools import partial
 
-from bunkmates.errors import BadLists
+from bunkmates.errors import BadLists, TooMany
+from bunkmates.halves import half_pairing, is_steady
 from bunkmates.lists import mutual
 from bunkmates.offers import offered
 from bunkmates.pairings import is_good, spoilers
+from bunkmates.rings import last_rows, rings_out
+from bunkmates.search import all_good
+from bunkmates.told import alone, odd_rings, paired
 from tests import cases
 
-# Each function that takes lists; the other argument is right for no lists at all,
-# wrong for any, wrong in its kind.
-TAKERS = {
-    "mutual": mutual,
-    "offered": offered,
-    "spoilers": lambda lists: spoilers(lists, []),
-    "spoilers, wrong mates": lambda lists: spoilers(lists, [True, 99, "x"]),
-    "spoilers, no pairing": lambda lists: spoilers(lists, None),
-    "is_good": lambda lists: is_good(lists, []),
-    "is_good, wrong mates": lambda lists: is_good(lists, [True, 99, "x"]),
-    "is_good, no pairing": lambda lists: is_good(lists, (None, None)),
-}
+# The functions that take lists alone, and those that take a pairing or a half pairing, too.
+ALONE = [
+    mutual, offered, rings_out, last_rows, half_pairing, paired, odd_rings, alone, all_good,
+]
+BESIDE = [spoilers, is_good, is_steady]
+
+
+def ask_all(lists, beside):
+    """Each function with what it tells of the lists, and of what stands beside them."""
+    for tell in ALONE:
+        yield tell.__name__, partial(tell, lists)
+    for tell in BESIDE:
+        for other in beside:
+            yield f"{tell.__name__}, {other}", partial(tell, lists, other)
 
 
 class Refused(unittest.TestCase):
     def refuse(self, lists, at):
-        for name, take in TAKERS.items():
+        # What stands beside is right for nobody at all, of a wrong length or with wrong mates,
+        # wrong in its kind.
+        beside = [[], [True, 99, "x"], [None] * 61, None, (None, None)]
+        for name, ask in ask_all(lists, beside):
             with self.subTest(name=name, lists=lists):
                 with self.assertRaises(BadLists) as caught:
-                    take(lists)
+                    ask()
                 self.assertEqual(caught.exception.at, at)
                 self.assertIs(type(caught.exception.at), type(at))
 
@@ -39,6 +49,14 @@ class Refused(unittest.TestCase):
         self.refuse([[] for _ in range(61)], None)
         self.refuse([[] for _ in range(200)], None)
         self.refuse([[60] + [0] * 3] + [None] * 60, None)
+
+    def test_wrong_lists_of_more_than_ten(self):
+        for many in (11, 12, 60):
+            lists = [[(person + 1) % many] for person in range(many)]
+            lists[many - 1] = [True]
+            self.refuse(lists, many - 1)
+            lists[3] = None
+            self.refuse(lists, 3)
 
     def test_a_row_that_is_no_list(self):
         for row in cases.NO_LIST:
@@ -149,61 +167,100 @@ class Mutual(unittest.TestCase):
 class Own(unittest.TestCase):
     """What is handed in is neither changed nor kept, what is told is the asker's own."""
 
-    LISTS = [[1, 2], [2, 0], [0, 1, 3], [2]]
+    # In these a ring goes, a ring stays, somebody is alone, somebody has several mates to choose.
+    LISTS = [
+        [[1, 2], [2, 0], [0, 1, 3], [2]], cases.SIX, cases.FOUR, cases.CIRCLE, cases.SEVEN,
+        [[1], [0], []],
+    ]
+
+    def lists_in(self, told):
+        """All lists within what is told, itself included."""
+        found = [told] if isinstance(told, list) else []
+        if isinstance(told, (list, tuple)):
+            for each in told:
+                found += self.lists_in(each)
+        return found
 
     def spoil(self, told):
-        for row in told:
-            row.append(99)
-            row.reverse()
-        told.append([7])
+        for each in self.lists_in(told):
+            each.reverse()
+            each.append(99)
+            each[0] = "spoilt"
 
-    def test_told_rows_are_the_askers(self):
-        for tell in (mutual, offered):
-            lists = copy.deepcopy(self.LISTS)
-            first = tell(lists)
-            kept = copy.deepcopy(first)
-            self.spoil(first)
-            self.assertEqual(lists, self.LISTS)
-            self.assertEqual(tell(lists), kept)
-            self.assertEqual(tell(copy.deepcopy(self.LISTS)), kept)
+    def test_what_is_told_is_the_askers(self):
+        for lists in self.LISTS:
+            beside = [[None] * len(lists)]
+            before = copy.deepcopy(lists)
+            for name, ask in ask_all(lists, beside):
+                with self.subTest(name=name, lists=lists):
+                    told = ask()
+                    kept = copy.deepcopy(told)
+                    self.spoil(told)
+                    self.assertEqual(lists, before)
+                    self.assertEqual(beside, [[None] * len(lists)])
+                    self.assertEqual(ask(), kept)
 
-    def test_told_spoilers_are_the_askers(self):
-        first = spoilers(self.LISTS, [None] * 4)
-        kept = list(first)
-        first.clear()
-        self.assertEqual(spoilers(self.LISTS, [None] * 4), kept)
+    def test_no_list_is_told_twice(self):
+        # Who changes one told row must not change another one, nor one told earlier.
+        for lists in self.LISTS:
+            for name, ask in ask_all(lists, [[None] * len(lists)]):
+                with self.subTest(name=name, lists=lists):
+                    parts = self.lists_in([ask(), ask(), lists])
+                    self.assertEqual(len(parts), len({id(part) for part in parts}))
 
-    def test_lists_handed_in_stay(self):
-        for lists in list(cases.many_lists(3, 100, 9)) + [cases.SIX, cases.FOUR]:
+    def test_what_is_handed_in_stays(self):
+        for lists in list(cases.many_lists(3, 100, 9)) + self.LISTS:
             before = copy.deepcopy(lists)
             pairing = [None] * len(lists)
-            mutual(lists)
-            offered(lists)
-            spoilers(lists, pairing)
-            is_good(lists, pairing)
-            self.assertEqual(lists, before)
-            self.assertEqual(pairing, [None] * len(lists))
+            for _, ask in ask_all(lists, [pairing]):
+                ask()
+                self.assertEqual(lists, before)
+                self.assertEqual(pairing, [None] * len(lists))
 
     def test_changed_lists_are_read_anew(self):
-        lists = [[1], [0]]
-        self.assertEqual(mutual(lists), [[1], [0]])
-        self.assertEqual(offered(lists), [[1], [0]])
-        self.assertEqual(spoilers(lists, [None, None]), [(0, 1)])
-        self.assertIs(is_good(lists, [None, None]), False)
-        lists[0].clear()
-        self.assertEqual(mutual(lists), [[], []])
-        self.assertEqual(offered(lists), [[], []])
-        self.assertEqual(spoilers(lists, [None, None]), [])
-        self.assertIs(is_good(lists, [None, None]), True)
-        lists[0].append(1)
-        lists.append([])
-        self.assertEqual(mutual(lists), [[1], [0], []])
-        self.assertEqual(offered(lists), [[1], [0], []])
+        for first, then in ((cases.SIX, cases.TWICE), (cases.FOUR, cases.CIRCLE)):
+            lists = copy.deepcopy(first)
+            for name, ask in ask_all(lists, [[None] * len(lists)]):
+                lists[:] = copy.deepcopy(first)
+                ask()
+                for row, other in zip(lists, then):
+                    row[:] = other
+                with self.subTest(name=name):
+                    fresh = dict(ask_all(copy.deepcopy(then), [[None] * len(then)]))
+                    self.assertEqual(ask(), fresh[name]())
 
-    def test_a_told_table_is_not_changed_later(self):
-        for tell in (mutual, offered):
-            lists = [[1], [0]]
-            told = tell(lists)
-            lists[0].clear()
-            lists[1].append(7)
-            self.assertEqual(told, [[1], [0]])
+    def test_what_is_told_is_not_changed_later(self):
+        for first in self.LISTS:
+            lists = copy.deepcopy(first)
+            for name, ask in ask_all(lists, [[None] * len(lists)]):
+                lists[:] = copy.deepcopy(first)
+                told = ask()
+                kept = copy.deepcopy(told)
+                for row in lists:
+                    row.clear()
+                ask()
+                lists[0].append(7)
+                with self.subTest(name=name):
+                    self.assertEqual(told, kept)
+
+
+class Limits(unittest.TestCase):
+    def test_as_many_as_may_be(self):
+        for many in (59, 60):
+            lists = [[other for other in range(many) if other != person] for person in range(many)]
+            for name, ask in ask_all(lists, [[None] * many]):
+                with self.subTest(name=name, many=many):
+                    if name == "all_good":
+                        self.assertRaises(TooMany, ask)
+                    else:
+                        ask()
+
+    def test_all_think_alike(self):
+        mates = [person + 1 - 2 * (person % 2) for person in range(60)]
+        for many, told in ((60, mates), (59, mates[:58] + [None])):
+            lists = [[other for other in range(many) if other != person] for person in range(many)]
+            self.assertEqual(paired(lists), told)
+            self.assertEqual(half_pairing(lists), told)
+            self.assertEqual(alone(lists), [p for p, mate in enumerate(told) if mate is None])
+            self.assertEqual(odd_rings(lists), [])
+            self.assertEqual(rings_out(lists), [])
